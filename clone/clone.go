@@ -37,3 +37,33 @@ func Directory(d api.Directory) api.Directory {
 	d.L, d.Forward = slices.Clone(d.L), slices.Clone(d.Forward)
 	return d
 }
+
+// Outcome copies an outcome of a section.
+func Outcome(o api.Outcome) api.Outcome {
+	o.Shards = shards(o.Shards)
+	o.Dead = Dead(o.Dead)
+	o.Order = slices.Clone(o.Order)
+	o.Carry = slices.Clone(o.Carry)
+	o.Edits = slices.Clone(o.Edits)
+	return o
+}
+
+// Section copies a section with its locker, with all that it has loaded, and with its outcome.
+func Section(s api.Section) api.Section {
+	s.Lock.Cells = slices.Clone(s.Lock.Cells)
+	s.Shards = shards(s.Shards)
+	s.Dead = Dead(s.Dead)
+	s.Stripes = slices.Clone(s.Stripes)
+	s.Dir = Directory(s.Dir)
+	s.Out = Outcome(s.Out)
+	s.Carry = slices.Clone(s.Carry)
+	return s
+}
+
+func shards(l []api.Shard) []api.Shard {
+	l = slices.Clone(l)
+	for i := range l {
+		l[i] = Shard(l[i])
+	}
+	return l
+}

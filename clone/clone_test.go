@@ -69,9 +69,98 @@ func TestParts(t *testing.T) {
 	}
 }
 
+// fullSection returns a section in which no list is empty and no number is zero.
+func fullSection() api.Section {
+	a := full()
+	return api.Section{
+		Phase: 1, At: 2,
+		Lock:    api.Locker{Cells: []int{1, 2}, Phase: 3, Have: 4, Tries: 5, Wait: 6},
+		Snap:    api.Snapshot{Phase: 1, Epoch: 2, Clock: 3, Stamp: 4},
+		Shards:  []api.Shard{a.Slots[0].Shard},
+		Dead:    a.Dead.Dead,
+		Stripes: a.Stripes,
+		Dir:     a.Dir,
+		Out: api.Outcome{
+			Shards: []api.Shard{full().Slots[0].Shard},
+			Dead:   full().Dead.Dead,
+			Order:  []int{1},
+			Carry:  []api.Message{{ID: 1}},
+			Edits:  []api.Edit{{Kind: 1, From: 2, To: 3, Mid: 4}},
+		},
+		Limit: 7,
+		Carry: []api.Message{{ID: 2}},
+	}
+}
+
+// outcomeSpoils change an element of each list of an outcome, sectionSpoils of each other list of a section.
+var (
+	outcomeSpoils = map[string]func(o api.Outcome){
+		"decided shards":  func(o api.Outcome) { o.Shards[0].Low = 0 },
+		"decided cells":   func(o api.Outcome) { o.Shards[0].Ready.Cells[0].ID = 0 },
+		"decided leases":  func(o api.Outcome) { o.Shards[0].Leases.L[0].Deadline = 0 },
+		"decided heap":    func(o api.Outcome) { o.Shards[0].Leases.Heap[0].ID = 0 },
+		"decided letters": func(o api.Outcome) { o.Dead.L[0].ID = 0 },
+		"order":           func(o api.Outcome) { o.Order[0] = 0 },
+		"decided carry":   func(o api.Outcome) { o.Carry[0].ID = 0 },
+		"edits":           func(o api.Outcome) { o.Edits[0].Kind = 0 },
+	}
+	sectionSpoils = map[string]func(s api.Section){
+		"locker":  func(s api.Section) { s.Lock.Cells[0] = 0 },
+		"shards":  func(s api.Section) { s.Shards[0].Low = 0 },
+		"cells":   func(s api.Section) { s.Shards[0].Ready.Cells[0].ID = 0 },
+		"leases":  func(s api.Section) { s.Shards[0].Leases.L[0].Deadline = 0 },
+		"heap":    func(s api.Section) { s.Shards[0].Leases.Heap[0].ID = 0 },
+		"letters": func(s api.Section) { s.Dead.L[0].ID = 0 },
+		"stripes": func(s api.Section) { s.Stripes[0].Seq = 0 },
+		"spans":   func(s api.Section) { s.Dir.L[0].Low = 0 },
+		"forward": func(s api.Section) { s.Dir.Forward[0] = 0 },
+		"carry":   func(s api.Section) { s.Carry[0].ID = 0 },
+	}
+)
+
+// checkSection tests that a copy is equal to a section, and that the section does not change with the copy.
+func checkSection(t *testing.T, name string, spoil func(s api.Section)) {
+	t.Helper()
+	s := fullSection()
+	x := clone.Section(s)
+	if !reflect.DeepEqual(s, fullSection()) || !reflect.DeepEqual(x, fullSection()) {
+		t.Errorf("the copy of %+v is %+v, want %+v", s, x, fullSection())
+	}
+	spoil(x)
+	if !reflect.DeepEqual(s, fullSection()) || reflect.DeepEqual(x, fullSection()) {
+		t.Errorf("the copy has the same %s: %+v", name, s)
+	}
+}
+
+func TestSection(t *testing.T) {
+	for name, spoil := range sectionSpoils {
+		checkSection(t, name, spoil)
+	}
+	for name, spoil := range outcomeSpoils {
+		checkSection(t, name, func(s api.Section) { spoil(s.Out) })
+	}
+}
+
+func TestOutcome(t *testing.T) {
+	for name, spoil := range outcomeSpoils {
+		o := fullSection().Out
+		x := clone.Outcome(o)
+		if !reflect.DeepEqual(x, fullSection().Out) {
+			t.Errorf("the copy of %+v is %+v", o, x)
+		}
+		spoil(x)
+		if !reflect.DeepEqual(o, fullSection().Out) || reflect.DeepEqual(x, fullSection().Out) {
+			t.Errorf("the copy has the same %s: %+v", name, o)
+		}
+	}
+}
+
 func TestEmpty(t *testing.T) {
-	want := fmt.Sprint(api.Arena{}, api.Shard{}, api.Dead{}, api.Directory{})
-	if got := fmt.Sprint(clone.Arena(api.Arena{}), clone.Shard(api.Shard{}), clone.Dead(api.Dead{}), clone.Directory(api.Directory{})); got != want {
+	want := fmt.Sprint(api.Arena{}, api.Shard{}, api.Dead{}, api.Directory{}, api.Outcome{}, api.Section{})
+	got := fmt.Sprint(
+		clone.Arena(api.Arena{}), clone.Shard(api.Shard{}), clone.Dead(api.Dead{}), clone.Directory(api.Directory{}),
+		clone.Outcome(api.Outcome{}), clone.Section(api.Section{}))
+	if got != want {
 		t.Errorf("copies of nothing: %s", got)
 	}
 }
