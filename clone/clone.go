@@ -2,6 +2,7 @@
 package clone
 
 import (
+	"bytes"
 	"slices"
 
 	"shardqueue/api"
@@ -40,7 +41,7 @@ func Directory(d api.Directory) api.Directory {
 
 // Outcome copies an outcome of a section.
 func Outcome(o api.Outcome) api.Outcome {
-	o.Shards = shards(o.Shards)
+	o.Shards = each(o.Shards, Shard)
 	o.Dead = Dead(o.Dead)
 	o.Order = slices.Clone(o.Order)
 	o.Carry = slices.Clone(o.Carry)
@@ -51,7 +52,7 @@ func Outcome(o api.Outcome) api.Outcome {
 // Section copies a section with its locker, with all that it has loaded, and with its outcome.
 func Section(s api.Section) api.Section {
 	s.Lock.Cells = slices.Clone(s.Lock.Cells)
-	s.Shards = shards(s.Shards)
+	s.Shards = each(s.Shards, Shard)
 	s.Dead = Dead(s.Dead)
 	s.Stripes = slices.Clone(s.Stripes)
 	s.Dir = Directory(s.Dir)
@@ -60,10 +61,28 @@ func Section(s api.Section) api.Section {
 	return s
 }
 
-func shards(l []api.Shard) []api.Shard {
+// Task copies a task with its invocation, its results and its section.
+func Task(t api.Task) api.Task {
+	t.Inv.Bodies = slices.Clone(t.Inv.Bodies)
+	t.Inv.Tokens = each(t.Inv.Tokens, bytes.Clone)
+	t.Results = each(t.Results, result)
+	t.Sec = Section(t.Sec)
+	t.Dir = Directory(t.Dir)
+	t.First, t.Second = slices.Clone(t.First), slices.Clone(t.Second)
+	return t
+}
+
+func result(r api.Result) api.Result {
+	r.Tokens = each(r.Tokens, bytes.Clone)
+	r.Bodies = slices.Clone(r.Bodies)
+	return r
+}
+
+// each copies a list whose elements contain lists.
+func each[T any](l []T, copyOf func(T) T) []T {
 	l = slices.Clone(l)
 	for i := range l {
-		l[i] = Shard(l[i])
+		l[i] = copyOf(l[i])
 	}
 	return l
 }

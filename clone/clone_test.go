@@ -155,11 +155,75 @@ func TestOutcome(t *testing.T) {
 	}
 }
 
+// fullTask returns a task in which no list is empty and no number is zero.
+func fullTask() api.Task {
+	return api.Task{
+		Number: 1,
+		Inv: api.Invocation{
+			Kind: 2, Home: 3, Max: 4, Visibility: 5, From: 6, To: 7,
+			Bodies: []string{"b", "c"},
+			Tokens: [][]byte{{8, 9}, {10}},
+		},
+		Invoked: 11, Done: true, Ended: 12, PC: 13, Entry: 14,
+		Results: []api.Result{{Err: 1, ID: 2, Tokens: [][]byte{{3}, {4, 5}}, Bodies: []string{"d"}, Ready: 6, Leased: 7, Moved: 8}},
+		Setup:   api.Setup{Slots: 1, Live: 2, Capacity: 3, Dead: 4, Limit: 5, Clock: 6, NextID: 7, Epoch: 8},
+		Sec:     fullSection(),
+		Dir:     full().Dir,
+		Walk:    api.Walk{Next: 1, Covered: 2},
+		Slot:    15, ID: 16,
+		Handle: api.Handle{ID: 1, Gen: 2, Route: 3, Hint: 4},
+		Loaded: 17,
+		First:  []api.Stripe{{Seq: 1}},
+		Second: []api.Stripe{{Seq: 2}},
+	}
+}
+
+// taskSpoils change an element of each list of a task that is not in its section.
+var taskSpoils = map[string]func(t api.Task){
+	"bodies":          func(t api.Task) { t.Inv.Bodies[1] = "" },
+	"tokens":          func(t api.Task) { t.Inv.Tokens[1] = nil },
+	"bytes":           func(t api.Task) { t.Inv.Tokens[1][0] = 0 },
+	"results":         func(t api.Task) { t.Results[0].ID = 0 },
+	"received tokens": func(t api.Task) { t.Results[0].Tokens[1] = nil },
+	"received bytes":  func(t api.Task) { t.Results[0].Tokens[1][1] = 0 },
+	"received bodies": func(t api.Task) { t.Results[0].Bodies[0] = "" },
+	"spans":           func(t api.Task) { t.Dir.L[0].Low = 0 },
+	"forward":         func(t api.Task) { t.Dir.Forward[0] = 0 },
+	"first stripes":   func(t api.Task) { t.First[0].Seq = 0 },
+	"second stripes":  func(t api.Task) { t.Second[0].Seq = 0 },
+}
+
+// checkTask tests that a copy is equal to a task, and that the task does not change with the copy.
+func checkTask(t *testing.T, name string, spoil func(x api.Task)) {
+	t.Helper()
+	whole := fullTask()
+	x := clone.Task(whole)
+	if !reflect.DeepEqual(whole, fullTask()) || !reflect.DeepEqual(x, fullTask()) {
+		t.Errorf("the copy of %+v is %+v, want %+v", whole, x, fullTask())
+	}
+	spoil(x)
+	if !reflect.DeepEqual(whole, fullTask()) || reflect.DeepEqual(x, fullTask()) {
+		t.Errorf("the copy has the same %s: %+v", name, whole)
+	}
+}
+
+func TestTask(t *testing.T) {
+	for name, spoil := range taskSpoils {
+		checkTask(t, name, spoil)
+	}
+	for name, spoil := range sectionSpoils {
+		checkTask(t, name+" of the section", func(x api.Task) { spoil(x.Sec) })
+	}
+	for name, spoil := range outcomeSpoils {
+		checkTask(t, name+" of the section", func(x api.Task) { spoil(x.Sec.Out) })
+	}
+}
+
 func TestEmpty(t *testing.T) {
-	want := fmt.Sprint(api.Arena{}, api.Shard{}, api.Dead{}, api.Directory{}, api.Outcome{}, api.Section{})
+	want := fmt.Sprint(api.Arena{}, api.Shard{}, api.Dead{}, api.Directory{}, api.Outcome{}, api.Section{}, api.Task{})
 	got := fmt.Sprint(
 		clone.Arena(api.Arena{}), clone.Shard(api.Shard{}), clone.Dead(api.Dead{}), clone.Directory(api.Directory{}),
-		clone.Outcome(api.Outcome{}), clone.Section(api.Section{}))
+		clone.Outcome(api.Outcome{}), clone.Section(api.Section{}), clone.Task(api.Task{}))
 	if got != want {
 		t.Errorf("copies of nothing: %s", got)
 	}
